@@ -1,0 +1,1 @@
+"""Startlog: a machine's start, noted hand by hand, and shown to one who asks."""

@@ -1,0 +1,16 @@
+"""What several files ask of whole numbers."""
+
+
+def inverse(number, span):
+    """The one below span that, times number, leaves 1 by span.
+
+    Both have no divisor but 1 in common, and span is above 1.
+    """
+    high, low = span, number % span
+    before, found = 0, 1
+    # found times number leaves low by span, all along.
+    while low > 1:
+        times = high // low
+        high, low = low, high - times * low
+        before, found = found, before - times * found
+    return found % span

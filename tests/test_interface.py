@@ -1,0 +1,73 @@
+"""The names and arguments of the interface, each defined in the file that it is listed under."""
+
+import ast
+import importlib
+import inspect
+import pathlib
+import unittest
+
+PACKAGE = pathlib.Path(__file__).resolve().parent.parent / "startlog"
+
+# By files: what stands there, and its arguments as the document writes them.
+INTERFACE = {
+    "names": {"is_name": "thing", "name_number": "name", "name_of": "number"},
+    "measures": {"measure": "body", "bodies": "note, *, least=0"},
+}
+
+ERRORS = (
+    "StartError", "NoName", "NoRow", "BadMixing", "NoBoard", "BadLog", "BadStep", "BadHand", "BadMachine", "NotYet",
+    "Fixed", "BadText", "BadLine", "Known", "Unknown", "TooMany", "BadDeed", "NoNumber", "NoPacket",
+)
+
+
+def defined(body):
+    """The functions and classes that are defined straight in this body, by their names."""
+    return {one.name: one for one in body if isinstance(one, (ast.FunctionDef, ast.ClassDef))}
+
+
+def in_file(name):
+    """The functions and classes that are defined in this file of the package."""
+    return defined(ast.parse((PACKAGE / f"{name}.py").read_text()).body)
+
+
+def arguments(asked):
+    """The arguments as they are written, without annotations."""
+    told = []
+    stars = False
+    for argument in inspect.signature(asked).parameters.values():
+        if argument.kind == argument.KEYWORD_ONLY and not stars:
+            told.append("*")
+            stars = True
+        bare = argument.default is argument.empty
+        told.append(argument.name if bare else f"{argument.name}={argument.default!r}")
+    return ", ".join(told)
+
+
+class Interface(unittest.TestCase):
+
+    def test_functions_and_classes(self):
+        for name, asked in INTERFACE.items():
+            found = in_file(name)
+            module = importlib.import_module(f"startlog.{name}")
+            for one in asked:
+                with self.subTest(f"{name}.{one}"):
+                    self.assertIn(one, found)
+                    if isinstance(asked[one], str):
+                        self.assertEqual(arguments(getattr(module, one)), asked[one])
+                    else:
+                        self.check_methods(getattr(module, one), found[one], asked[one])
+
+    def check_methods(self, made, written, asked):
+        stands = defined(written.body)
+        for method in asked:
+            self.assertIn(method, stands)
+            self.assertEqual(arguments(getattr(made, method)), asked[method])
+
+    def test_errors(self):
+        found = in_file("errors")
+        for name in ERRORS:
+            self.assertIsInstance(found.get(name), ast.ClassDef, name)
+
+
+if __name__ == "__main__":
+    unittest.main()

@@ -1,0 +1,142 @@
+"""Rules of LANGUAGE.md that a test can see: where one is broken its number is told."""
+
+import ast
+import builtins
+import pathlib
+import re
+import unittest
+
+PACKAGE = pathlib.Path(__file__).resolve().parent.parent / "startlog"
+
+FILES = sorted(PACKAGE.glob("*.py"))
+
+BARRED_WORDS = (
+    "type typing typing_extensions enum Enum IntEnum StrEnum Flag IntFlag Generic Protocol ABC ABCMeta namedtuple "
+    "NamedTuple TypedDict TYPE_CHECKING abstractmethod"
+).split()
+
+BARRED_PARTS = ("dataclass", "overload", "contextmanager")
+
+BUILTINS = (
+    "len range enumerate zip min max sum abs sorted reversed int str bool bytes list tuple dict set frozenset "
+    "isinstance ord repr any all divmod iter next super property staticmethod classmethod "
+    "Exception ValueError TypeError KeyError IndexError LookupError ZeroDivisionError ArithmeticError OverflowError "
+    "RuntimeError NotImplementedError AttributeError StopIteration NotImplemented"
+).split()
+
+BARRED_STATEMENTS = (
+    ast.Import, ast.Global, ast.AsyncFunctionDef, ast.AsyncFor, ast.AsyncWith, ast.Await, ast.Div, ast.MatMult,
+)
+
+
+def tree(path):
+    return ast.parse(path.read_text(), str(path))
+
+
+def nodes(path, kinds):
+    return [node for node in ast.walk(tree(path)) if isinstance(node, kinds)]
+
+
+def at_top(path):
+    """The names that this file defines at module level, imports aside."""
+    told = []
+    for one in tree(path).body:
+        if isinstance(one, (ast.FunctionDef, ast.ClassDef)):
+            told.append(one.name)
+        elif isinstance(one, ast.Assign):
+            told.extend(target.id for target in one.targets)
+    return told
+
+
+def bound(path):
+    """The names that are bound anywhere in this file, attributes aside."""
+    told = [node.id for node in nodes(path, ast.Name) if isinstance(node.ctx, ast.Store)]
+    told.extend(node.arg for node in nodes(path, ast.arg))
+    told.extend(node.name for node in nodes(path, (ast.FunctionDef, ast.ClassDef)))
+    return told
+
+
+class Language(unittest.TestCase):
+
+    def test_l1_l14_files(self):
+        self.assertIn("__init__.py", [path.name for path in FILES])
+        self.assertLessEqual(len(FILES), 100)
+        for path in PACKAGE.iterdir():
+            if path.name != "__pycache__":
+                self.assertRegex(path.name, r"^[a-z0-9_]+\.py$", "L1")
+
+    def test_l14_signs_and_l10_sizes(self):
+        for path in FILES:
+            with self.subTest(path.name):
+                text = path.read_bytes().decode("ascii")
+                self.assertIsNone(re.search(r"[^ -~\n]", text), "L14")
+                self.assertLessEqual(len(text.splitlines()), 399, "L10")
+                self.assertLessEqual(max([0, *map(len, text.split("\n"))]), 120, "L10")
+                for made in nodes(path, ast.FunctionDef):
+                    self.assertLessEqual(made.end_lineno - made.lineno + 1, 40, "L10")
+
+    def test_l2_l16_imports(self):
+        for path in FILES:
+            for one in nodes(path, ast.ImportFrom):
+                with self.subTest(f"{path.name} {one.lineno}"):
+                    self.assertEqual(one.level, 0, "L2")
+                    package, dot, name = one.module.partition(".")
+                    self.assertEqual((package, dot), ("startlog", "."), "L2")
+                    for imported in one.names:
+                        self.assertIn(imported.name, at_top(PACKAGE / f"{name}.py"), "L16")
+
+    def test_l3_module_level(self):
+        for path in FILES:
+            for place, one in enumerate(tree(path).body):
+                plain = isinstance(one, (ast.ImportFrom, ast.FunctionDef, ast.ClassDef, ast.Assign))
+                self.assertTrue(plain or (place == 0 and isinstance(one, ast.Expr)), f"L3 {path.name} {one.lineno}")
+
+    def test_l6_l7_statements(self):
+        for path in FILES:
+            self.assertEqual(nodes(path, BARRED_STATEMENTS), [], f"L6 L7 {path.name}")
+
+    def test_l7_choices_take_lists(self):
+        for path in FILES:
+            for call in nodes(path, ast.Call):
+                if isinstance(call.func, ast.Name) and call.func.id in ("any", "all", "min", "max", "sum", "sorted"):
+                    self.assertNotIsInstance(call.args[0], ast.GeneratorExp, f"L7 {path.name} {call.lineno}")
+
+    def test_l8_builtins(self):
+        for path in FILES:
+            for name in nodes(path, ast.Name):
+                if isinstance(name.ctx, ast.Load) and hasattr(builtins, name.id):
+                    self.assertIn(name.id, BUILTINS, f"L8 {path.name} {name.lineno}")
+
+    def test_l12_l15_names(self):
+        for path in FILES:
+            for name in bound(path):
+                if not re.fullmatch(r"__[a-z]+__", name):
+                    self.assertFalse(name.startswith("_"), f"L12 {path.name} {name}")
+                    self.assertFalse(hasattr(builtins, name), f"L15 {path.name} {name}")
+
+    def test_l17_words(self):
+        for path in FILES:
+            text = path.read_text()
+            for word in BARRED_WORDS:
+                self.assertIsNone(re.search(rf"\b{word}\b", text), f"L17 {path.name} {word}")
+            for part in BARRED_PARTS:
+                self.assertNotIn(part, text, f"L17 {path.name}")
+
+    def test_l20_is(self):
+        for path in FILES:
+            for compared in nodes(path, ast.Compare):
+                for sign, other in zip(compared.ops, compared.comparators):
+                    if isinstance(sign, (ast.Is, ast.IsNot)):
+                        self.assertIsInstance(other, ast.Constant, f"L20 {path.name} {compared.lineno}")
+                        self.assertIn(repr(other.value), ("None", "True", "False"), f"L20 {path.name}")
+
+    def test_l27_strings_and_floats(self):
+        for path in FILES:
+            for one in nodes(path, ast.Constant):
+                self.assertNotIsInstance(one.value, float, f"L7 {path.name} {one.lineno}")
+                if isinstance(one.value, str):
+                    self.assertNotIn("%", one.value, f"L27 {path.name} {one.lineno}")
+
+
+if __name__ == "__main__":
+    unittest.main()
