@@ -1,6 +1,18 @@
 """What several files ask of whole numbers."""
 
 
+def is_number(thing):
+    """Whether thing is a number; True and False are none."""
+    return isinstance(thing, int) and not isinstance(thing, bool)
+
+
+def common_divisor(number, other):
+    """The greatest divisor that both have in common."""
+    while other != 0:
+        number, other = other, number % other
+    return number
+
+
 def inverse(number, span):
     """The one below span that, times number, leaves 1 by span.
 

@@ -1,7 +1,13 @@
 """Things that several tests hand in."""
 
 import copy
+import random
 import unittest
+
+WORDS = ("load", "set", "end", "late", "reset")
+
+# The names at the ends of each length, and others.
+NAMES = ("a", "z", "aa", "az", "zz", "fan", "zzz", "aaaa", "boot", "kern", "zzzz")
 
 # Of each kind that may be asked of anything, none of them a name or a row.
 THINGS = (
@@ -9,6 +15,36 @@ THINGS = (
     [], (), [None], (None,), [[]], ((),), [0, "load", "a", 5], ["a"], ("a",),
     [[0, "load", "a", 5]], ((), [[("a", [True, (0, [None])])]]),
 )
+
+
+def number_of(row):
+    """The row's number, as [5] tells it."""
+    board, word, name, note = row
+    number = 0
+    for letter in name:
+        number = number * 27 + "-abcdefghijklmnopqrstuvwxyz".index(letter)
+    return (number * 5 + WORDS.index(word)) * 9973 + note
+
+
+def rows_of(words, *, boards=(0, 7)):
+    """Rows of these words at the ends of board, name and note."""
+    return [
+        (board, word, name, note)
+        for word in words for board in boards for name in NAMES
+        for note in ((0,) if word in ("end", "reset") else (0, 1, 17, 9972))
+    ]
+
+
+def some_rows(seed, many, words, *, boards=4):
+    """So many rows of these words, by this seed always the same."""
+    chance = random.Random(seed)
+    rows = []
+    for _ in range(many):
+        word = chance.choice(words)
+        note = 0 if word in ("end", "reset") else chance.choice((0, 9972, chance.randrange(9973)))
+        name = "".join(chance.choice("abmyz") for _ in range(chance.randint(1, 4)))
+        rows.append((chance.randrange(boards), word, name, note))
+    return rows
 
 
 def kinds(thing):

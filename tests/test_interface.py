@@ -12,6 +12,22 @@ PACKAGE = pathlib.Path(__file__).resolve().parent.parent / "startlog"
 INTERFACE = {
     "names": {"is_name": "thing", "name_number": "name", "name_of": "number"},
     "measures": {"measure": "body", "bodies": "note, *, least=0"},
+    "rows": {"is_row": "thing", "row_number": "row", "row_with": "number, board"},
+    "mixing": {
+        "Mixing": {
+            "__init__": "self, width=None, *, factor=7919",
+            "begin": "self, *, reset=False",
+            "mixed": "self, value, row",
+            "unmixed": "self, value, row",
+            "alike": "self, row, other",
+        },
+    },
+    "reading": {"read": "value", "beginnings": "value"},
+    "logs": {
+        "fault": "log, *, many=4, fixed=2",
+        "is_log": "thing, *, many=4, fixed=2",
+        "is_up": "log",
+    },
 }
 
 ERRORS = (
