@@ -6,6 +6,11 @@ def is_number(thing):
     return isinstance(thing, int) and not isinstance(thing, bool)
 
 
+def is_within(thing, least, greatest):
+    """Whether thing is a number from least to greatest."""
+    return is_number(thing) and least <= thing <= greatest
+
+
 def common_divisor(number, other):
     """The greatest divisor that both have in common."""
     while other != 0:

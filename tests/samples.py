@@ -6,6 +6,8 @@ import unittest
 
 WORDS = ("load", "set", "end", "late", "reset")
 
+SPAN = 26500305465
+
 # The names at the ends of each length, and others.
 NAMES = ("a", "z", "aa", "az", "zz", "fan", "zzz", "aaaa", "boot", "kern", "zzzz")
 
@@ -14,6 +16,20 @@ THINGS = (
     0, 1, -1, 7, 10 ** 30, True, False, None, "", "a b", "A", "load,", "a\n",
     [], (), [None], (None,), [[]], ((),), [0, "load", "a", 5], ["a"], ("a",),
     [[0, "load", "a", 5]], ((), [[("a", [True, (0, [None])])]]),
+)
+
+
+# (width, factor) of mixings, those of few numbers among them.
+MIXINGS = ((None, 7919), (None, 7), (3, 1), (3, 7919), (4, 7), (101, 7), (360, 7919), (500, 7919), (10 ** 6, 999999))
+
+# What may be told of boards: (many, fixed), one to eight of them, none to all of them fixed.
+BOARDS = [(many, fixed) for many in range(1, 9) for fixed in range(many + 1)]
+
+NO_ROWS = (
+    *THINGS, "load", (0, "load", "boot"), (0, "load", "boot", 5, 0), [0, "load", "boot", 5], (8, "load", "boot", 5),
+    (-1, "load", "boot", 5), (True, "load", "boot", 5), (0, "Load", "boot", 5), (0, "load", "Boot", 5),
+    (0, "load", "boot", 9973), (0, "load", "boot", True), (0, "load", "boot", -1), (0, "end", "boot", 1),
+    (2, "reset", "boot", 1),
 )
 
 
@@ -45,6 +61,41 @@ def some_rows(seed, many, words, *, boards=4):
         name = "".join(chance.choice("abmyz") for _ in range(chance.randint(1, 4)))
         rows.append((chance.randrange(boards), word, name, note))
     return rows
+
+
+def standing(seed, many=4, fixed=2, rows=6):
+    """A log that can stand: loads and sets, an end, late ones and, where a board isn't fixed, resets."""
+    late = some_rows(seed + 1000, rows, ("late", "reset"), boards=many)
+    return [
+        *some_rows(seed, rows, ("load", "set"), boards=many),
+        (many - 1, "end", "kern", 0),
+        *[row if row[1] == "late" or row[0] >= fixed else (row[0], "late", row[2], 5) for row in late],
+    ]
+
+
+def plain_mixed(width, factor, value, row):
+    """A board's number behind this row, which is none of reset, as [6] tells it."""
+    if width is None:
+        return value * SPAN + number_of(row) + 1
+    return (value * factor + number_of(row) + 1) % width
+
+
+def plain_boards(width, factor, log, many=4):
+    """The boards' numbers behind a log that can stand, each reckoned by itself, as [9] tells it."""
+    told = []
+    for board in range(many):
+        value = 1
+        for row in log:
+            if row[0] == board:
+                value = 2 if row[1] == "reset" else plain_mixed(width, factor, value, row)
+        told.append(value)
+    return told
+
+
+def lists_in(thing):
+    """All lists in a thing, itself too."""
+    inside = [one for part in thing for one in lists_in(part)] if isinstance(thing, (list, tuple)) else []
+    return [thing, *inside] if isinstance(thing, list) else inside
 
 
 def kinds(thing):
@@ -80,6 +131,32 @@ class Asking(unittest.TestCase):
             self.assertIs(type(caught.exception), error)
             self.same(caught.exception.what, what)
         self.same((places, names), before)
+
+    def ways(self, asked, named, **behind):
+        """What is told by places, by names and by names in another order: the same."""
+        first = self.told(asked, *named.values(), **behind)
+        self.same(self.told(asked, **named, **behind), first)
+        turned = dict(reversed([*named.items(), *behind.items()]))
+        self.same(self.told(asked, **turned), first)
+        return first
+
+    def refused_all_ways(self, error, what, asked, named, **behind):
+        """Refused by places, by names and by names in another order."""
+        self.refused(error, what, asked, *named.values(), **behind)
+        self.refused(error, what, asked, **named, **behind)
+        self.refused(error, what, asked, **dict(reversed([*named.items(), *behind.items()])))
+
+    def own(self, asked, *places, **names):
+        """What is told is the asker's own: no two told lists are one, and changing them changes no other answer."""
+        kept = copy.deepcopy(asked(*places, **names))
+        first, second = asked(*places, **names), asked(*places, **names)
+        lists = [*lists_in(first), *lists_in(second), *lists_in(places), *lists_in(tuple(names.values()))]
+        self.assertEqual(len({id(one) for one in lists}), len(lists))
+        for one in lists_in(first):
+            one.append("more")
+            one.reverse()
+        self.same(second, kept)
+        self.same(asked(*places, **names), kept)
 
     def by_names_alone(self, asked, *places):
         """The last of these places is behind a *."""

@@ -28,6 +28,31 @@ INTERFACE = {
         "is_log": "thing, *, many=4, fixed=2",
         "is_up": "log",
     },
+    "replays": {
+        "replay": "mixing, log, *, many=4, fixed=2",
+        "replays": "mixing, log, *, many=4, fixed=2",
+        "leads_to": "mixing, log, values, *, many=4, fixed=2",
+        "shown_rows": "log, *, many=4, fixed=2",
+    },
+    "others": {
+        "other_log": "mixing, log, some",
+        "count_logs": "mixing, value, some, many",
+        "hidden": "mixing, some",
+    },
+    "mends": {
+        "mended": "log, step",
+        "mends": "mixing, log, values, some, *, many=4, fixed=2",
+        "first_parted": "mixing, log, values, *, many=4, fixed=2",
+    },
+    "hands": {
+        "Hand": {
+            "__init__": "self, name, body, *, loads=(), lies=()",
+            "notes": "self, next_hand",
+            "__eq__": "self, other",
+            "__str__": "self",
+        },
+    },
+    "signs": {"sign_of": "key, numbers"},
 }
 
 ERRORS = (

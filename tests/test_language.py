@@ -24,6 +24,12 @@ BUILTINS = (
     "RuntimeError NotImplementedError AttributeError StopIteration NotImplemented"
 ).split()
 
+# What attributes aren't called, by L26 and L8.
+BARRED_ATTRIBUTES = (
+    "items keys values pop update append clear extend insert remove reverse setdefault sort args encode decode hex "
+    "fromhex format format_map mro as_integer_ratio bit_count conjugate from_bytes is_integer to_bytes"
+).split()
+
 BARRED_STATEMENTS = (
     ast.Import, ast.Global, ast.AsyncFunctionDef, ast.AsyncFor, ast.AsyncWith, ast.Await, ast.Div, ast.MatMult,
 )
@@ -56,6 +62,39 @@ def bound(path):
     return told
 
 
+def imported(path):
+    """The names that this file imports."""
+    return [name.asname or name.name for one in nodes(path, ast.ImportFrom) for name in one.names]
+
+
+def reached(path):
+    """The files of the package that this one imports from, also through others."""
+    told = []
+    left = [path]
+    while left:
+        for one in nodes(left.pop(), ast.ImportFrom):
+            other = PACKAGE / f"{one.module.partition('.')[2]}.py"
+            if other not in told:
+                told.append(other)
+                left.append(other)
+    return told
+
+
+def methods():
+    """The names of all methods of the package."""
+    return [
+        made.name for path in FILES for one in nodes(path, ast.ClassDef)
+        for made in one.body if isinstance(made, ast.FunctionDef)
+    ]
+
+
+def attributes():
+    """The names of all attributes that are assigned in the package."""
+    return [
+        node.attr for path in FILES for node in nodes(path, ast.Attribute) if isinstance(node.ctx, ast.Store)
+    ]
+
+
 class Language(unittest.TestCase):
 
     def test_l1_l14_files(self):
@@ -84,6 +123,33 @@ class Language(unittest.TestCase):
                     self.assertEqual((package, dot), ("startlog", "."), "L2")
                     for imported in one.names:
                         self.assertIn(imported.name, at_top(PACKAGE / f"{name}.py"), "L16")
+
+    def test_l16_no_two_files_import_from_each_other(self):
+        for path in FILES:
+            self.assertNotIn(path, reached(path), "L16")
+
+    def test_l15_locals_are_called_like_no_import_or_class(self):
+        for path in FILES:
+            classes = [one.name for one in nodes(path, ast.ClassDef)]
+            local = [node.arg for node in nodes(path, ast.arg)]
+            local.extend(node.id for node in nodes(path, ast.Name) if isinstance(node.ctx, ast.Store))
+            self.assertEqual(set(local) & {*imported(path), *classes}, set(), f"L15 {path.name}")
+            self.assertEqual(len(set(imported(path))), len(imported(path)), f"L15 {path.name}")
+            self.assertEqual(set(imported(path)) & set(at_top(path)), set(), f"L15 {path.name}")
+
+    def test_l18_l26_methods_and_attributes(self):
+        self.assertEqual(set(methods()) & set(attributes()), set(), "L18")
+        self.assertEqual(set(attributes()) & set(BARRED_ATTRIBUTES), set(), "L26")
+        for path in FILES:
+            for one in nodes(path, ast.ClassDef):
+                names = [made.name for made in one.body if isinstance(made, ast.FunctionDef)]
+                self.assertEqual(len(set(names)), len(names), "L18")
+
+    def test_l27_powers_have_literal_exponents(self):
+        for path in FILES:
+            for one in nodes(path, ast.BinOp):
+                if isinstance(one.op, ast.Pow):
+                    self.assertIsInstance(one.right, ast.Constant, f"L27 {path.name} {one.lineno}")
 
     def test_l3_module_level(self):
         for path in FILES:

@@ -5,15 +5,9 @@ import re
 import unittest
 
 from startlog.logs import fault, is_log, is_up
-from tests.samples import THINGS, WORDS, Asking, some_rows
+from tests.samples import NO_ROWS, WORDS, Asking, some_rows, standing
 
 LETTERS = {"load": "l", "set": "s", "end": "e", "late": "t", "reset": "r"}
-
-NO_ROWS = (
-    *THINGS, "load", (0, "load", "boot"), (0, "load", "boot", 5, 0), [0, "load", "boot", 5], (8, "load", "boot", 5),
-    (-1, "load", "boot", 5), (True, "load", "boot", 5), (0, "Load", "boot", 5), (0, "load", "Boot", 5),
-    (0, "load", "boot", 9973), (0, "load", "boot", True), (0, "load", "boot", -1),
-)
 
 
 def stands(log, many, fixed):
@@ -30,16 +24,6 @@ def expected(log, many, fixed):
         if not stands(log[:place + 1], many, fixed):
             return place
     return None
-
-
-def standing(seed, many=4, fixed=2, rows=6):
-    """A log that can stand: loads and sets, an end, late ones and, where a board isn't fixed, resets."""
-    late = some_rows(seed + 1000, rows, ("late", "reset"), boards=many)
-    return [
-        *some_rows(seed, rows, ("load", "set"), boards=many),
-        (many - 1, "end", "kern", 0),
-        *[row if row[1] == "late" or row[0] >= fixed else (row[0], "late", row[2], 5) for row in late],
-    ]
 
 
 class Logs(Asking):
