@@ -6,6 +6,11 @@ def is_number(thing):
     return isinstance(thing, int) and not isinstance(thing, bool)
 
 
+def is_from(thing, least):
+    """Whether thing is a number from least on."""
+    return is_number(thing) and thing >= least
+
+
 def is_within(thing, least, greatest):
     """Whether thing is a number from least to greatest."""
     return is_number(thing) and least <= thing <= greatest

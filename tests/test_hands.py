@@ -50,7 +50,9 @@ class Made(Asking):
         lies = [(0, "a", 1), (3, "b", 2)]
         for loads in (LOADS, tuple(LOADS)):
             for told in (lies, tuple(lies)):
-                for hand in (Hand("boot", 17, loads=loads, lies=told), Hand(lies=told, loads=loads, body=17, name="boot")):
+                for hand in (
+                    Hand("boot", 17, loads=loads, lies=told), Hand(lies=told, loads=loads, body=17, name="boot"),
+                ):
                     self.same(fields(hand), ("boot", 17, tuple(LOADS), tuple(lies)))
 
     def test_edges(self):
@@ -98,7 +100,8 @@ class Refused(Asking):
         bad = [(board, "fan", 3) for board in (-1, 8, 9, True, False, None, "0", [], (0,))]
         bad.extend((0, name, 3) for name in ("", "Fan", "fanny", 0, None, True, ["fan"], ("fan",)))
         bad.extend((0, "fan", body) for body in (-1, 10 ** 6 + 1, True, False, None, "3", [3], (3,)))
-        bad.extend([(), (0,), (0, "fan"), (0, "fan", 3, 0), [0, "fan", 3], ((0, "fan", 3),), ("fan", 0, 3), None, 0, "a"])
+        bad.extend([(), (0,), (0, "fan"), (0, "fan", 3, 0), [0, "fan", 3], ((0, "fan", 3),), ("fan", 0, 3)])
+        bad.extend([None, 0, "a"])
         told = [thing for thing in THINGS if thing not in ([], ())]
         told.extend([good, list(good), [[good]], [good] * 4, [good] * 5, "fan", None])
         for thing in bad:
@@ -114,7 +117,8 @@ class Refused(Asking):
         bad = [(place, "lie", 3) for place in (-1, many + 1, many + 2, 10 ** 9, True, False, None, "0", [], (0,))]
         bad.extend((0, name, 3) for name in ("", "Lie", "lying", 0, None, True, ["lie"], ("lie",)))
         bad.extend((0, "lie", body) for body in (-1, 10 ** 6 + 1, True, False, None, "3", [3], (3,)))
-        bad.extend([(), (0,), (0, "lie"), (0, "lie", 3, 0), [0, "lie", 3], ((0, "lie", 3),), ("lie", 0, 3), None, 0, "a"])
+        bad.extend([(), (0,), (0, "lie"), (0, "lie", 3, 0), [0, "lie", 3], ((0, "lie", 3),), ("lie", 0, 3)])
+        bad.extend([None, 0, "a"])
         told = [thing for thing in THINGS if thing not in ([], ())]
         told.extend([(0, "lie", 3), [0, "lie", 3], [[(0, "lie", 3)]], "lie", None])
         for thing in bad:
@@ -134,7 +138,9 @@ class Refused(Asking):
         self.refused(BadHand, "lies", Hand, "boot", 17, lies=[(1, "lie", 3)])
 
     def test_the_first_of_several(self):
-        bads = {"name": (None, "Boot", []), "body": (None, -1, True), "loads": (None, [None], 5), "lies": (None, [()], 5)}
+        bads = {
+            "name": (None, "Boot", []), "body": (None, -1, True), "loads": (None, [None], 5), "lies": (None, [()], 5),
+        }
         goods = {"name": ("boot",), "body": (17,), "loads": ((),), "lies": ((),)}
         for bad in itertools.product((False, True), repeat=4):
             if any(bad):
@@ -213,7 +219,8 @@ class Equal(unittest.TestCase):
         made = [
             ("boot", 17, (), ()), ("boot", 18, (), ()), ("root", 17, (), ()), ("boot", 17 + 9973, (), ()),
             ("boot", 17, ((0, "a", 1),), ()), ("boot", 17, ((1, "a", 1),), ()), ("boot", 17, ((0, "a", 2),), ()),
-            ("boot", 17, ((0, "a", 1), (0, "a", 1)), ()), ("boot", 17, (), ((0, "a", 1),)), ("boot", 17, (), ((0, "b", 1),)),
+            ("boot", 17, ((0, "a", 1), (0, "a", 1)), ()), ("boot", 17, (), ((0, "a", 1),)),
+            ("boot", 17, (), ((0, "b", 1),)),
             ("boot", 17, ((0, "a", 1),), ((0, "a", 1),)), ("boot", 17, ((0, "a", 1),), ((1, "a", 1),)),
         ]
         for one in made:

@@ -53,6 +53,32 @@ INTERFACE = {
         },
     },
     "signs": {"sign_of": "key, numbers"},
+    "machines": {
+        "Machine": {
+            "__init__": "self, name, key, hands, *, mixing=None, many=4, fixed=2",
+            "start": "self",
+            "step": "self",
+            "late": "self, board, name, body",
+            "reset": "self, board, name",
+            "turn": "self, place, hand",
+            "state": "self",
+            "starts": "self",
+            "log": "self",
+            "boards": "self",
+            "quote": "self, number, *, some=None",
+            "twin": "self",
+        },
+        "plan_of": "hands",
+        "first_false": "plan, log",
+    },
+    "quotes": {
+        "is_quote": "thing",
+        "quote_of": "key, name, start, number, values",
+        "is_signed": "key, quote",
+        "values_of": "quote",
+    },
+    "texts": {"log_text": "log", "log_in": "text", "quote_text": "quote", "quote_in": "text"},
+    "rules": {"is_rule": "thing", "is_policy": "thing"},
 }
 
 ERRORS = (

@@ -71,7 +71,8 @@ class OtherLog(Asking):
                 self.assertIn(other, (None, []))
 
     def test_by_hand(self):
-        # Of width 3 and factor 1 the rows' figures, 49865 + note + 1 by 3, are summed: note 0 adds 0, 1 adds 1, 2 adds 2.
+        # Of width 3 and factor 1 the rows' figures, 49865 + note + 1 by 3, are summed:
+        # note 0 adds 0, 1 adds 1, 2 adds 2.
         zero, one, two = loads(0, 1, 2)
         mixing = Mixing(3, factor=1)
         self.same(other_log(mixing, [zero], [zero, one, two]), [])
