@@ -79,6 +79,19 @@ INTERFACE = {
     },
     "texts": {"log_text": "log", "log_in": "text", "quote_text": "quote", "quote_in": "text"},
     "rules": {"is_rule": "thing", "is_policy": "thing"},
+    "verdicts": {"verdict": "policy, log", "fits": "policy, log"},
+    "standings": {
+        "first_standing": "policy",
+        "stepped": "policy, standing, row",
+        "ends": "policy, standing",
+    },
+    "free": {"binds": "policy, row, other", "orders": "policy, log"},
+    "parting": {
+        "parted": "policy, other",
+        "alike_paper": "policy, other",
+        "shows_alike": "policy, other, thing",
+        "shows_parted": "policy, other, thing",
+    },
 }
 
 ERRORS = (
