@@ -88,6 +88,15 @@ class Binds(Asking):
             for one, other in itertools.product(rows("a b c boot zz"), repeat=2):
                 self.assertIs(binds(policy, one, other), plain_binds(policy, one, other))
 
+    def test_names_that_are_words_of_rules_too(self):
+        names = ("next", "must", "only", "a")
+        for _, chance in seeded(200):
+            policy = some_policy(chance, most=3, names=names)
+            for one, other in itertools.product(rows("next must only note most a"), repeat=2):
+                self.assertIs(binds(policy, one, other), plain_binds(policy, one, other))
+        self.assertIs(binds([("next", "a", "b")], row("next"), row("c")), False)
+        self.assertIs(binds([("next", "a", "b")], row("c"), row("next")), False)
+
 
 class Orders(Asking):
 

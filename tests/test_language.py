@@ -30,6 +30,13 @@ BARRED_ATTRIBUTES = (
     "fromhex format format_map mro as_integer_ratio bit_count conjugate from_bytes is_integer to_bytes"
 ).split()
 
+# The methods of builtin values that may be called, of the first list of L25.
+BUILTIN_METHODS = (
+    "append clear copy count endswith extend find get index insert isalnum isalpha isdigit islower isspace isupper items "
+    "join keys ljust lower lstrip partition pop remove replace reverse rfind rjust rpartition rsplit rstrip setdefault "
+    "split splitlines startswith strip update upper values zfill bit_length"
+).split()
+
 BARRED_STATEMENTS = (
     ast.Import, ast.Global, ast.AsyncFunctionDef, ast.AsyncFor, ast.AsyncWith, ast.Await, ast.Div, ast.MatMult,
 )
@@ -144,6 +151,55 @@ class Language(unittest.TestCase):
             for one in nodes(path, ast.ClassDef):
                 names = [made.name for made in one.body if isinstance(made, ast.FunctionDef)]
                 self.assertEqual(len(set(names)), len(names), "L18")
+
+    def test_l18_l25_attributes_that_are_read(self):
+        known = {*methods(), *attributes(), *BUILTIN_METHODS}
+        for path in FILES:
+            for one in nodes(path, ast.Attribute):
+                self.assertIn(one.attr, known, f"L18 L25 {path.name} {one.lineno}")
+
+    def test_l4_no_decorators_and_plain_defaults(self):
+        for path in FILES:
+            for made in nodes(path, (ast.FunctionDef, ast.ClassDef)):
+                self.assertEqual(made.decorator_list, [], f"L4 {path.name} {made.lineno}")
+            for made in nodes(path, ast.arguments):
+                for default in [*made.defaults, *made.kw_defaults]:
+                    plain = default is None or isinstance(default, (ast.Constant, ast.Name, ast.Tuple))
+                    self.assertTrue(plain, f"L4 {path.name} {default and default.lineno}")
+                self.assertEqual(made.posonlyargs, [], f"L4 {path.name}")
+
+    def test_l6_finally_blocks_are_simple(self):
+        for path in FILES:
+            for one in nodes(path, ast.Try):
+                for row in one.finalbody:
+                    is_append = isinstance(row, ast.Expr) and isinstance(row.value, ast.Call)
+                    is_append = is_append and getattr(row.value.func, "attr", None) in ("append", "clear")
+                    self.assertTrue(is_append or isinstance(row, ast.Assign), f"L6 {path.name} {row.lineno}")
+
+    def test_l19_errors_that_are_caught_or_raised(self):
+        own = at_top(PACKAGE / "errors.py")
+        for path in FILES:
+            for one in nodes(path, ast.ExceptHandler):
+                self.assertIn(getattr(one.type, "id", None), own, f"L19 {path.name} {one.lineno}")
+            for one in nodes(path, ast.Raise):
+                self.assertIn(one.exc.func.id, own, f"L19 {path.name} {one.lineno}")
+
+    def test_l8_l22_builtins_are_called_alone(self):
+        for path in FILES:
+            called = [call.func for call in nodes(path, ast.Call)]
+            asked = [name for call in nodes(path, ast.Call) if getattr(call.func, "id", None) == "isinstance"
+                     for name in ast.walk(call.args[1])]
+            bases = [base for made in nodes(path, ast.ClassDef) for base in made.bases]
+            for name in nodes(path, ast.Name):
+                if isinstance(name.ctx, ast.Load) and hasattr(builtins, name.id):
+                    self.assertTrue(
+                        any(self.is_at(name, one) for one in [*called, *asked, *bases]), f"L22 {path.name} {name.lineno}",
+                    )
+
+    def is_at(self, node, other):
+        """Whether both, of two readings of one file, are one."""
+        place = ("lineno", "col_offset", "end_col_offset")
+        return all(getattr(node, one, None) == getattr(other, one, None) for one in place)
 
     def test_l27_powers_have_literal_exponents(self):
         for path in FILES:

@@ -122,6 +122,13 @@ class Verdict(Asking):
                 self.assertIs(fits(policy, log), plain_fits(policy, log))
         self.assertEqual(words, {*RULE_WORDS, "fits"})
 
+    def test_names_that_are_words_of_rules_too(self):
+        names = ("next", "must", "only", "note", "most", "a")
+        for _, chance in seeded(200):
+            policy = some_policy(chance, names=names)
+            log = some_log(chance, chance.randint(0, 8), names=names)
+            self.check(policy, log, plain_verdict(policy, log))
+
     def test_logs_that_can_stand(self):
         for seed, chance in seeded(100):
             log = standing(seed)
