@@ -367,6 +367,21 @@ class Runner(Checking):
         self.assertEqual([len(yard.book().history(name)) for name in ("ann", "bob", "eve")], [22, 22, 21])
 
 
+    def test_eight_machines_and_sixty_packets(self):
+        yard = with_packets(60, *NAMES[:8], life=99)
+        self.refused_by(TooMany, 8, yard, "build", "ann", 5, HANDS)
+        self.assertEqual(yard.book().names(), sorted(NAMES[:8]))
+        yard.swap(0, 59)
+        yard.bend(8, ("out", 0))
+        yard.forge(16, 6)
+        yard.lose(24)
+        # The last log of each machine first, so that all others of it are cut; three have another's rows, or too few.
+        self.assertEqual(collections.Counter(yard.carry(58 - k) for k in range(59)),
+                         collections.Counter({"cut": 47, "good": 8, "sign": 1, "boards": 3}))
+        self.assertEqual(len(yard), 0)
+        self.assertEqual(sum(len(yard.book().history(name)) for name in NAMES[:8]), 58)
+
+
 class Twins(Checking):
 
     def test_alike_and_apart(self):
